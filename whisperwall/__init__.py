@@ -1,0 +1,1 @@
+"""Whisperwall: small programs that keep secrets."""

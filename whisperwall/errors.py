@@ -1,0 +1,1 @@
+"""Errors: nothing is refused, so there are none."""

@@ -95,12 +95,69 @@ class Maker:
         chosen = [name for name in sorted(NAMES) if self.random.randrange(3)]
         return tuple((name, self.random.choice((0, 1, 2, 3, 996))) for name in chosen)
 
+    def house(self):
+        chosen = [name for name in sorted(NAMES) if self.random.randrange(3)]
+        return tuple((name, self.random.randrange(3)) for name in chosen)
+
 
 def cases(count, seed):
     """As many (program, program, store, most) as are asked for."""
     maker = Maker(seed)
     for step in range(count):
         yield (maker.block(3), maker.block(3), maker.store(), maker.random.choice((0, 1, 2, 3, 5, 8, 30)))
+
+
+def names_within(thing):
+    """The names in a term or a program, each as often as it stands there."""
+    if isinstance(thing, tuple):
+        if thing[:1] in (("name",), ("put",)):
+            yield thing[1]
+        for part in thing:
+            yield from names_within(part)
+
+
+def plain_flows(block, choosing=frozenset()):
+    """The set of the flows of a program, written apart from the package."""
+    found = set()
+    for kind, *rest in block:
+        if kind == "if":
+            within = choosing | set(names_within(rest[0]))
+            found |= plain_flows(rest[1], within) | plain_flows(rest[2], within)
+            continue
+        term = rest[0] if kind == "while" else rest[1]
+        target = {"put": ("name", rest[0]), "show": ("page", rest[0]), "while": ("page", 0)}[kind]
+        found |= {(name, target) for name in choosing | set(names_within(term))}
+        if kind == "while":
+            found |= plain_flows(rest[1], choosing)
+    return found
+
+
+def plain_lets(program, house):
+    levels = {("name", name): level for name, level in house} | {("page", page): page for page in (0, 1, 2)}
+    return not [1 for name, target in plain_flows(program) if levels.get(("name", name), 0) > levels.get(target, 0)]
+
+
+def tiny_programs():
+    """All programs of one deed over two names, with at most one deed in each block, and some with a block within."""
+    terms = (ZERO, ONE, A, B)
+    deeds = [put(name, term) for name in ("a", "b") for term in terms]
+    deeds += [show(level, term) for level in (0, 1, 2) for term in terms]
+    blocks = [()] + [(deed,) for deed in deeds]
+    yield from blocks
+    for term in terms:
+        for block in blocks:
+            yield (("while", term, block),)
+            yield (("while", term, (("if", A, block, ()), count_down("a"))),)
+            yield (("if", term, (), (("while", B, block),)),)
+            for other in blocks + [(("while", term, ()),) for term in terms]:
+                yield (("if", term, block, other),)
+
+
+def tiny_houses():
+    """All houses over two names."""
+    for first in (None, 0, 1, 2):
+        for second in (None, 0, 1, 2):
+            yield tuple(pair for pair in (("a", first), ("b", second)) if pair[1] is not None)
 
 
 class Stopped(Exception):

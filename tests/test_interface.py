@@ -8,6 +8,11 @@ INTERFACE = {
         "is_program": ["thing"], "is_house": ["thing"], "is_store": ["thing"], "names_of": ["program"],
     },
     "whisperwall.running": {"value": ["term", "store"], "run": ["program", "store", "most"]},
+    "whisperwall.flowing": {
+        "flows": ["program"], "lets": ["program", "house"], "seen": ["store", "house", "level"],
+    },
+    "whisperwall.settling": {"settled": ["program", "house"]},
+    "whisperwall.cutting": {"cut": ["program", "house", "level"]},
 }
 
 

@@ -31,6 +31,22 @@ NODES = set(
 )
 
 
+WALKED = ("zip", "enumerate", "reversed", "range", "items", "keys", "values")
+WALKING = ("list", "tuple", "dict", "sorted", "sum", "any", "all", "enumerate", "zip", "min", "max")
+
+
+def called(node):
+    """The name of the function or method that a node calls, or None."""
+    if not isinstance(node, ast.Call):
+        return None
+    return node.func.attr if isinstance(node.func, ast.Attribute) else getattr(node.func, "id", None)
+
+
+def names_bound_at_the_top(tree):
+    defs = [part.name for part in tree.body if isinstance(part, ast.FunctionDef)]
+    return defs + [part.targets[0].id for part in tree.body if isinstance(part, ast.Assign)]
+
+
 def files():
     return sorted(PACKAGE.glob("*.py"))
 
@@ -60,6 +76,44 @@ class TestLanguage(unittest.TestCase):
                 check = getattr(self, "check_" + type(node).__name__, None)
                 if check:
                     check(node, where)
+
+    def test_imports(self):
+        drawn = {}
+        for path in files():
+            tree = ast.parse(path.read_text())
+            drawn[path.stem] = set()
+            for row in [part for part in tree.body if isinstance(part, ast.ImportFrom)]:
+                source = row.module.removeprefix("whisperwall.")
+                drawn[path.stem].add(source)
+                defined = names_bound_at_the_top(ast.parse((PACKAGE / (source + ".py")).read_text()))
+                self.assertEqual([part.name for part in row.names if part.name not in defined], [], path.name)
+        while drawn:
+            free = [name for name in drawn if not drawn[name] & set(drawn)]
+            self.assertNotEqual(free, [], "files that draw from one another")
+            for name in free:
+                del drawn[name]
+
+    def test_locals_are_not_called_like_imports(self):
+        for path in files():
+            tree = ast.parse(path.read_text())
+            imported = {part.name for row in tree.body if isinstance(row, ast.ImportFrom) for part in row.names}
+            for node in ast.walk(tree):
+                if isinstance(node, ast.arg):
+                    self.assertNotIn(node.arg, imported, path.name)
+                elif isinstance(node, ast.Name) and isinstance(node.ctx, ast.Store):
+                    self.assertNotIn(node.id, imported, path.name)
+
+    def test_sets_and_walks_are_not_kept(self):
+        for path in files():
+            for outer in ast.walk(ast.parse(path.read_text())):
+                for inner in ast.iter_child_nodes(outer):
+                    if called(inner) in ("set", "frozenset"):
+                        asked = called(outer) in ("sorted", "len") or isinstance(outer, (ast.Compare, ast.BinOp))
+                        self.assertTrue(asked, f"{path.name}, line {inner.lineno}")
+                    elif called(inner) in WALKED:
+                        walked = isinstance(outer, (ast.For, ast.comprehension)) and outer.iter is inner
+                        first = called(outer) in WALKING and outer.args[0] is inner
+                        self.assertTrue(walked or first, f"{path.name}, line {inner.lineno}")
 
     def check_Module(self, node, where):
         self.assertTrue(ast.get_docstring(node), where)

@@ -1,6 +1,8 @@
 import unittest
 
-from small_programs import A, B, ONE, ZERO, Maker, add, deep_term, less, nested, number, put, rebuilt, show, times
+from small_programs import (
+    A, B, ONE, ZERO, Maker, add, deep_term, less, names_within, nested, number, put, rebuilt, show, times,
+)
 from whisperwall.things import is_house, is_program, is_store, names_of
 
 BAD_NAMES = (
@@ -384,14 +386,6 @@ class TestNames(unittest.TestCase):
         before = repr(program)
         names_of(program)
         self.assertEqual(repr(program), before)
-
-
-def names_within(thing):
-    if isinstance(thing, tuple):
-        if thing[:1] in (("name",), ("put",)):
-            yield thing[1]
-        for part in thing:
-            yield from names_within(part)
 
 
 if __name__ == "__main__":

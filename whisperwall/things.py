@@ -30,6 +30,11 @@ def names_of(program):
     return tuple(sorted(found))
 
 
+# The walk of names_of takes a term as it takes a deed.
+def names_in_term(term):
+    return names_of((term,))
+
+
 # Terms and deeds share no first word, so one walk can go through both.
 def parts_of(part):
     kind = part[0]
